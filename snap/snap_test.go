@@ -728,8 +728,8 @@ func TestOrder(t *testing.T) {
 	}
 }
 
-// P11.1, P11.2: all rows of up to three bytes, and all short rows of bytes that
-// begin elements.
+// P11.1, P11.2: all rows of up to two bytes, and those of three that begin with
+// a small size.
 func TestAllShort(t *testing.T) {
 	like(t, "")
 	for a := range 256 {
@@ -747,7 +747,8 @@ func TestAllShort(t *testing.T) {
 	}
 }
 
-// P11.2, P11.3: all rows of so many bytes, of those that make elements.
+// P11.2, P11.3: all rows of a small size and up to five bytes, of some that
+// make elements.
 func TestAllRows(t *testing.T) {
 	parts := []byte{0x00, 0x01, 0x02, 0x03, 0x04, 0x05, 0x06, 0x08, 0xf0}
 	var rows func(s []byte, left int)
